@@ -1,0 +1,1 @@
+"""Blindweirs: a river led for all rains, known and unknown."""

@@ -1,0 +1,82 @@
+"""The interface: names, arguments, properties, and where each thing is defined."""
+
+import ast
+import inspect
+import unittest
+from importlib import import_module
+from pathlib import Path
+
+import blindweirs
+
+PACKAGE = Path(blindweirs.__file__).parent
+ORDER = ["errors", "values", "tables", "days", "given", "steps", "kept", "reasons", "rights"]
+
+FUNCTIONS = {
+    "tables": ["is_water(thing)", "sums(water)", "nothing(size)", "closed(table)", "is_empty(table)", "ring(table)",
+               "is_ring(table, thing)", "is_within(one, other)", "is_same(one, other)", "both(one, other)",
+               "highest(table)", "lowest(table)", "a_water(table)", "hidden(table, points)", "worn(table, rain)"],
+    "days": ["cells_of(lags)", "point_of(lags, place)", "is_rain(thing)", "rain_between(least, greatest)",
+             "worst_row(rain, a, b)"],
+    "steps": ["evening(day, water, row, releases)", "is_sound(day, water)", "broken(day, water)",
+              "walk(river, first, water, rows, releases)", "first_unsound(river, first, water, rows, releases)"],
+    "kept": ["comes_from(lags)", "before(day, after)", "tables(river, first, last)",
+             "can_keep(river, first, last, water)", "releases_for(river, first, last, water, row)",
+             "is_keeping(river, first, last, water, row, releases)", "is_led(river, first, last, thing)"],
+    "reasons": ["is_book(river, first, last, water, thing)", "book(river, first, last, water)",
+                "row_by(river, reasons, at)", "next_by(reasons, at, water)"],
+    "rights": ["is_claim(thing)", "river_of(river, rights, lot, first, last)",
+               "sure_table(river, rights, lot, first, last)", "is_sure(river, rights, name, first, last, water)",
+               "sure_number(river, rights, first, last, water)", "sure_lots(river, rights, first, last, water)",
+               "chosen_lot(river, rights, first, last, water)"],
+}
+CLASSES = {
+    "tables": {"Table(size, bounds=None)": (["size", "bounds"], ["fits(self, water)", "__eq__(self, other)"])},
+    "days": {"Day(lags, outlets, rain, takes=None, marks=None)":
+             (["lags", "outlets", "rain", "takes", "marks", "sound"],
+              ["with_outlets(self, outlets)", "with_rain(self, rain)", "with_takes(self, takes)",
+               "with_marks(self, marks)", "__eq__(self, other)"]),
+             "River(days)": (["days", "lags"], ["day_on(self, number)", "__len__(self)", "__eq__(self, other)"])},
+    "rights": {"Rights(rights=())": (["rights", "names"],
+                                     ["right(self, name)", "elders(self, name)", "with_right(self, at, right)",
+                                      "without(self, name)", "moved(self, name, at)", "__len__(self)",
+                                      "__eq__(self, other)"])},
+}
+
+
+def told(function):
+    return f"{function.__name__}{inspect.signature(function)}"
+
+
+class InterfaceTest(unittest.TestCase):
+    def test_functions(self):
+        for name, signatures in FUNCTIONS.items():
+            module = import_module(f"blindweirs.{name}")
+            for signature in signatures:
+                function = getattr(module, signature.split("(")[0])
+                self.assertEqual(told(function), signature)
+                self.assertEqual(function.__module__, module.__name__)
+
+    def test_classes(self):
+        for name, classes in CLASSES.items():
+            module = import_module(f"blindweirs.{name}")
+            for signature, (properties, methods) in classes.items():
+                made = getattr(module, signature.split("(")[0])
+                self.assertEqual(told(made), signature)
+                self.assertEqual(made.__module__, module.__name__)
+                for attribute in properties:
+                    self.assertIsInstance(vars(made)[attribute], property)
+                for method in methods:
+                    self.assertEqual(told(vars(made)[method.split("(")[0]]), method)
+
+    def test_the_package_defines_nothing(self):
+        body = ast.parse((PACKAGE / "__init__.py").read_text()).body
+        self.assertEqual([ast.get_docstring(ast.Module(body, [])) is None, len(body)], [False, 1])
+
+    def test_modules_import_only_from_those_ahead(self):
+        files = sorted(path.stem for path in PACKAGE.glob("*.py"))
+        self.assertEqual(files, sorted(["__init__", *ORDER]))
+        for at, name in enumerate(ORDER):
+            for node in ast.walk(ast.parse((PACKAGE / f"{name}.py").read_text())):
+                self.assertNotIsInstance(node, ast.Import)
+                if isinstance(node, ast.ImportFrom):
+                    self.assertIn(node.module, [f"blindweirs.{ahead}" for ahead in ORDER[:at]])
