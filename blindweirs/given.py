@@ -1,7 +1,7 @@
 """What parameters must be, and the errors for what they are not."""
 
 from blindweirs.days import MOST_DAYS, Day, River, size_of
-from blindweirs.errors import BadDay, BadNumber, BadRiver, BadRow, BadWater
+from blindweirs.errors import BadDay, BadNumber, BadPlace, BadRiver, BadRow, BadWater
 from blindweirs.tables import is_water
 from blindweirs.values import is_number_between, is_number_from
 
@@ -19,6 +19,11 @@ def need_river(river):
 def need_water(lags, water):
     if not is_water(water) or len(water) != size_of(lags):
         raise BadWater("no water of the cells concerned")
+
+
+def need_place(lags, place):
+    if not is_number_between(place, 0, len(lags) - 1):
+        raise BadPlace("the places of a river are numbered from 0")
 
 
 def need_number_from(number, least):

@@ -87,7 +87,7 @@ class Rights:
         return isinstance(other, Rights) and self._rights == other._rights
 
 
-def _need_rights(river, rights):
+def need_rights(river, rights):
     if not isinstance(rights, Rights):
         raise BadRights(None)
     if not all([right[1] < len(river.lags) for right in rights.rights]):
@@ -103,7 +103,7 @@ def _is_lot(rights, thing):
 def river_of(river, rights, lot, first, last):
     """The river of a stretch of days in which the rights of a lot are taken, too."""
     need_river(river)
-    _need_rights(river, rights)
+    need_rights(river, rights)
     if not _is_lot(rights, lot):
         raise BadLot("no tuple of different names of the rights, in their order")
     need_stretch(first, last)
@@ -131,13 +131,13 @@ def _is_sure_lot(river, rights, lot, first, last, water):
 def is_sure(river, rights, name, first, last, water):
     """Whether a right is sure, together with its elders."""
     need_river(river)
-    _need_rights(river, rights)
+    need_rights(river, rights)
     return _is_sure_lot(river, rights, rights.elders(name), first, last, water)
 
 
 def _need_all(river, rights, first, last, water):
     need_river(river)
-    _need_rights(river, rights)
+    need_rights(river, rights)
     need_stretch(first, last)
     need_water(river.lags, water)
 

@@ -9,7 +9,8 @@ from pathlib import Path
 import blindweirs
 
 PACKAGE = Path(blindweirs.__file__).parent
-ORDER = ["errors", "values", "tables", "days", "given", "steps", "kept", "reasons", "rights"]
+ORDER = ["errors", "values", "tables", "days", "given", "steps", "kept", "reasons", "rights", "search", "changes",
+         "letting", "owners"]
 
 FUNCTIONS = {
     "tables": ["is_water(thing)", "sums(water)", "nothing(size)", "closed(table)", "is_empty(table)", "ring(table)",
@@ -28,6 +29,16 @@ FUNCTIONS = {
                "sure_table(river, rights, lot, first, last)", "is_sure(river, rights, name, first, last, water)",
                "sure_number(river, rights, first, last, water)", "sure_lots(river, rights, first, last, water)",
                "chosen_lot(river, rights, first, last, water)"],
+    "changes": ["injured(old, old_rights, new, new_rights, first, last)",
+                "injury(old, old_rights, new, new_rights, first, last, name)",
+                "is_injury(old, old_rights, new, new_rights, first, last, name, thing)",
+                "harmless_most(river, rights, right, at, first, last)"],
+    "letting": ["told_river(river, rights, first, last, row, place, number)",
+                "safe_most(river, rights, first, last, water, row, place)",
+                "safe_row(river, rights, first, last, water, row, order)",
+                "younger(river, rights, number, first, last, water, row)"],
+    "owners": ["upper_river(river, border, promise)", "lower_river(river, border, promise)",
+               "parts_of(river, border, water)", "promise_stretch(river, border, first, last, water, least)"],
 }
 CLASSES = {
     "tables": {"Table(size, bounds=None)": (["size", "bounds"], ["fits(self, water)", "__eq__(self, other)"])},
