@@ -93,13 +93,19 @@ def tables(river, first, last):
     need_river(river)
     need_stretch(first, last)
     pairs = []
+    following = None
     for number in reversed(range(first, last + 1)):
-        day = river.day_on(number)
-        after = day.sound
-        if pairs:
-            after = closed(both(after, pairs[-1][0]))
-        pairs.append((_led_back(day, after), after))
+        pairs.append(two_tables(river.day_on(number), following))
+        following = pairs[-1][0]
     return pairs[::-1]
+
+
+def two_tables(day, following):
+    """The tables of the morning and the evening of a day ahead of a morning's table; None if any water will do."""
+    after = day.sound
+    if following is not None:
+        after = closed(both(after, following))
+    return (_led_back(day, after), after)
 
 
 def can_keep(river, first, last, water):
@@ -119,15 +125,15 @@ def releases_for(river, first, last, water, row):
     need_row(day, row)
     after = tables(river, first, last)[0][1]
     standing = sums(flow(day, water, row, [0] * len(day.lags)))
-    within = both(after, _within_reach(day, standing))
+    within = both(after, within_reach(day, standing))
     if is_empty(within):
         return None
-    least = _let_down(day, standing, highest(within))
-    greatest = _let_down(day, standing, lowest(within))
+    least = let_down(day, standing, highest(within))
+    greatest = let_down(day, standing, lowest(within))
     return (least, greatest)
 
 
-def _within_reach(day, standing):
+def within_reach(day, standing):
     """The table of the evenings that releases can make of what would lie there without any."""
     bounds = {}
     for point, (least, most) in enumerate(outlets_by_point(day)):
@@ -138,7 +144,7 @@ def _within_reach(day, standing):
     return Table(len(standing) - 1, bounds)
 
 
-def _let_down(day, standing, water):
+def let_down(day, standing, water):
     """The releases by which a water comes of what would lie there without any."""
     left = sums(water)
     points = [point_of(day.lags, place) for place in range(len(day.lags))]

@@ -79,7 +79,7 @@ def broken(day, water):
     return sorted(found)
 
 
-def _need_rows(river, first, rows):
+def need_rows(river, first, rows):
     if not is_list(rows) or len(rows) > MOST_DAYS:
         raise BadRows(None)
     for at, row in enumerate(rows):
@@ -99,7 +99,7 @@ def walk(river, first, water, rows, releases):
     need_river(river)
     need_number_from(first, 0)
     need_water(river.lags, water)
-    _need_rows(river, first, rows)
+    need_rows(river, first, rows)
     _need_all_releases(river, first, len(rows), releases)
     evenings = []
     lying = water

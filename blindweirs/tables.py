@@ -2,6 +2,7 @@
 
 from blindweirs.errors import BadPoints, BadRain, BadTable, BadWater, OtherSize
 from blindweirs.values import is_list, is_number, is_number_between, is_pair
+from blindweirs.ways import is_losing_ring, losing_ring
 
 MOST_CELLS = 12
 
@@ -23,7 +24,7 @@ def sums(water):
     return tuple(found)
 
 
-def _water_of(points):
+def water_of(points):
     """The water whose sums differ from point to point as these numbers do."""
     return tuple([below - above for above, below in zip(points, points[1:])])
 
@@ -145,51 +146,15 @@ def is_empty(table):
 def ring(table):
     """A ring of points whose bounds sum to less than 0; None if some water fits."""
     _need_table(table, None)
-    count = table.size + 1
-    bounds = table.bounds
-    reached = [0] * count
-    ahead = [None] * count
-    changed = None
-    for _ in range(count):
-        changed = None
-        for a, b in bounds:
-            if reached[a] + bounds[(a, b)] < reached[b]:
-                reached[b] = reached[a] + bounds[(a, b)]
-                ahead[b] = a
-                changed = b
-    # Without a ring no way has more steps than there are points, so the last round changes nothing.
-    if changed is None:
-        return None
-    return _ring_behind(ahead, changed)
-
-
-def _ring_behind(ahead, start):
-    """The ring into which the steps back from a point lead, in the order of its bounds."""
-    point = start
-    for _ in range(len(ahead)):
-        point = ahead[point]
-    found = [point]
-    step = ahead[point]
-    while step != point:
-        found.append(step)
-        step = ahead[step]
-    return found[::-1]
+    return losing_ring(table.bounds)
 
 
 def is_ring(table, thing):
     """Whether any value is a ring of the table."""
     _need_table(table, None)
-    if not is_list(thing) or len(thing) < 2:
+    if not is_list(thing) or not all([is_number_between(point, 0, table.size) for point in thing]):
         return False
-    if not all([is_number_between(point, 0, table.size) for point in thing]):
-        return False
-    if len(set(thing)) != len(thing):
-        return False
-    bounds = table.bounds
-    steps = list(zip(thing, list(thing[1:]) + [thing[0]]))
-    if not all([step in bounds for step in steps]):
-        return False
-    return sum([bounds[step] for step in steps]) < 0
+    return is_losing_ring(table.bounds, thing)
 
 
 def is_within(one, other):
@@ -227,7 +192,7 @@ def highest(table):
     greatest = [row[0] for row in least]
     if None in greatest:
         return None
-    return _water_of(greatest)
+    return water_of(greatest)
 
 
 def lowest(table):
@@ -236,7 +201,7 @@ def lowest(table):
     least = _least_ways(table)
     if least is None or None in least[0]:
         return None
-    return _water_of([-number for number in least[0]])
+    return water_of([-number for number in least[0]])
 
 
 def a_water(table):
@@ -246,7 +211,7 @@ def a_water(table):
     if least is None:
         return None
     # The least way to anywhere keeps each bound: a step and the least way behind it are a way, too.
-    return _water_of([min([number for number in row if number is not None]) for row in least])
+    return water_of([min([number for number in row if number is not None]) for row in least])
 
 
 def hidden(table, points):

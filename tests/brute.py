@@ -52,6 +52,40 @@ def can_win(river, number, last, water, known):
     return known[(number, water)]
 
 
+def all_that_keep(river, first, rows, water):
+    """All plans of releases that keep, with their evenings, by trying all releases of each day."""
+    found = [([], [])]
+    for at, row in enumerate(rows):
+        day = river.day_on(first + at)
+        longer = []
+        for plan, evenings in found:
+            lying = evenings[-1] if evenings else water
+            for told in all_releases(day, lying, row):
+                left = evening(day, lying, row, told)
+                if is_sound(day, left):
+                    longer.append((plan + [tuple(told)], evenings + [left]))
+        found = longer
+    return found
+
+
+def highest_of(found):
+    """The plan whose evenings have the greatest sums at all points, of plans with their evenings."""
+    heights = [[sums(left) for left in evenings] for _, evenings in found]
+    top = [tuple(max(numbers) for numbers in zip(*told)) for told in zip(*heights)]
+    return found[heights.index(top)][0]
+
+
+def some_known(choice, most_days=3):
+    """A small river, a first day, rows of the days from there on, and a water."""
+    river = some_river(choice)
+    size = len(river.day_on(0).lags) + sum(river.day_on(0).lags)
+    first = choice.randint(0, 2)
+    many = choice.randint(1, most_days if size < 3 else 2)
+    rows = [choice.choice(rows_of(river.day_on(first + at))) for at in range(many)]
+    water = tuple(choice.randint(0, 3 if size < 4 else 2) for _ in range(size))
+    return river, first, rows, water
+
+
 def some_table(choice, size, low, high, share):
     pairs = [(a, b) for a in range(size + 1) for b in range(size + 1) if a != b]
     return Table(size, {pair: choice.randint(low, high) for pair in pairs if choice.random() < share})

@@ -116,7 +116,7 @@ class FormTest(unittest.TestCase):
         for name, text in sources().items():
             for node in ast.parse(text).body:
                 if isinstance(node, ast.FunctionDef) and node.name.startswith("_"):
-                    self.assertGreater(text.count(f"{node.name}("), 1, (name, node.name))
+                    self.assertGreater(len(re.findall(rf"\b{node.name}\b", text)), 1, (name, node.name))
 
     def test_methods(self):
         own = {node.name for tree in trees().values() for made in nodes(tree, ast.ClassDef) for node in made.body

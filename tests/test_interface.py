@@ -9,8 +9,8 @@ from pathlib import Path
 import blindweirs
 
 PACKAGE = Path(blindweirs.__file__).parent
-ORDER = ["errors", "values", "tables", "days", "given", "steps", "kept", "reasons", "rights", "search", "changes",
-         "letting", "owners"]
+ORDER = ["errors", "values", "ways", "tables", "days", "given", "steps", "kept", "reasons", "rights", "search", "changes",
+         "letting", "owners", "years", "nets", "seeing", "flows", "power"]
 
 FUNCTIONS = {
     "tables": ["is_water(thing)", "sums(water)", "nothing(size)", "closed(table)", "is_empty(table)", "ring(table)",
@@ -39,6 +39,17 @@ FUNCTIONS = {
                 "younger(river, rights, number, first, last, water, row)"],
     "owners": ["upper_river(river, border, promise)", "lower_river(river, border, promise)",
                "parts_of(river, border, water)", "promise_stretch(river, border, first, last, water, least)"],
+    "years": ["lasting(river)", "lasts(river, first, water)", "is_lasting(river, thing)", "years_enough(river)",
+              "failing_day(river, first, water, most)", "turned(river, number)"],
+    "nets": ["net(river, first, rows, water)", "known(river, first, rows, water)",
+             "known_ring(river, first, rows, water)", "is_known_ring(river, first, rows, water, thing)",
+             "known_plan(river, first, rows, water)"],
+    "seeing": ["seen_table(river, first, last, days)", "can_see(river, first, last, water, days)",
+               "worth_of_seeing(river, first, last, water)"],
+    "power": ["yielded(prices, releases)", "dearest(river, first, rows, water, prices)",
+              "dearest_plan(river, first, rows, water, prices)", "shown(river, first, rows, water, prices, thing)",
+              "worths(river, first, rows, water, prices)", "safe_day(river, first, last, water, row, prices)",
+              "led_day_by_day(river, first, rows, water, prices)"],
 }
 CLASSES = {
     "tables": {"Table(size, bounds=None)": (["size", "bounds"], ["fits(self, water)", "__eq__(self, other)"])},
