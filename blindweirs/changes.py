@@ -95,15 +95,15 @@ def harmless_most(river, rights, right, at, first, last):
     if len(rights) == MOST_RIGHTS:
         raise TooMany(MOST_RIGHTS)
     # The elder ones do not feel what comes behind them.
-    were = [(name, _table_with_elders(river, rights, first, last, name)) for name in rights.names[at:]]
+    were = [(other, _table_with_elders(river, rights, first, last, other)) for other in rights.names[at:]]
     name, place, day, amount = right
 
     def harms_nobody(number):
         if number == 0:
             return True
         joined = rights.with_right(at, (name, place, day, number))
-        for younger, was in were:
-            if not is_within(was, _table_with_elders(river, joined, first, last, younger)):
+        for other, was in were:
+            if not is_within(was, _table_with_elders(river, joined, first, last, other)):
                 return False
         return True
 

@@ -3,15 +3,18 @@
 
 def first_from(least, most, holds):
     """The least number of a stretch from which on something holds; None if it does not at its end."""
+    # Often one of the ends tells all.
+    if holds(least):
+        return least
     if not holds(most):
         return None
-    while least < most:
+    while most - least > 1:
         middle = (least + most) // 2
         if holds(middle):
             most = middle
         else:
-            least = middle + 1
-    return least
+            least = middle
+    return most
 
 
 def last_up_to(least, most, holds):

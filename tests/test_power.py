@@ -112,7 +112,7 @@ class DearestTest(unittest.TestCase):
     def test_large_rivers(self):
         choice = random.Random(132)
         kept = 0
-        while kept < 8:
+        while kept < 24:
             lags = choice.choice([[1, 1, 1, 0, 0], [0, 0, 0, 0, 0], [3, 0, 0, 0], [2, 2, 0, 0], [0, 3, 0, 0, 0]])
             places, size = len(lags), len(lags) + sum(lags)
             days = []
@@ -123,7 +123,8 @@ class DearestTest(unittest.TestCase):
             river = River(days)
             rows = [tuple(choice.randint(0, 10 ** choice.randint(0, 4)) for _ in lags) for _ in range(12)]
             water = tuple(choice.randint(0, 5) for _ in range(size))
-            prices = [[choice.randint(-10 ** 12, 10 ** 12) for _ in lags] for _ in range(12)]
+            far = choice.choice([2, 5, 10 ** 12])
+            prices = [[choice.randint(-far, far) for _ in lags] for _ in range(12)]
             most = dearest(river, 0, rows, water, prices)
             if most is None:
                 continue

@@ -240,8 +240,9 @@ class ErrorsTest(unittest.TestCase):
                 with self.assertRaises(BadRiver):
                     call(thing, None, None, *[None] * more)
             for first, last in WRONG_STRETCHES:
-                with self.assertRaises(BadNumber):
-                    call(river, first, last, *[(0,) * 5] * more)
+                for told in [None, (0,) * 5]:
+                    with self.assertRaises(BadNumber):
+                        call(river, first, last, *[told] * more)
         for water in [None, (), (1,) * 4, [1] * 5, (1, 1, 1, 1, True), (1,) * 6]:
             with self.assertRaises(BadWater):
                 can_see(river, 0, 1, water, None)

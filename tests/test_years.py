@@ -197,6 +197,8 @@ class IsLastingTest(unittest.TestCase):
                       [(table,)]]:
             self.assertIs(is_lasting(river, thing), False, thing)
         two = two_days()
+        for thing in [[lasting(two)[0], None], [None, lasting(two)[1]], [lasting(two)[0], Table(2)]]:
+            self.assertIs(is_lasting(two, thing), False)
         self.assertIs(is_lasting(two, lasting(two) + lasting(two)), False)
         self.assertIs(is_lasting(two, lasting(two)[:1]), False)
 
