@@ -49,3 +49,11 @@ def is_row(day, thing):
 def need_row(day, row):
     if not is_row(day, row):
         raise BadRow("no row that the rain of the day has")
+
+
+def need_morning(river, first, last, water, row):
+    """What is asked of the morning of a first day whose row is known."""
+    need_river(river)
+    need_stretch(first, last)
+    need_water(river.lags, water)
+    need_row(river.day_on(first), row)

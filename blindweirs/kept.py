@@ -2,7 +2,7 @@
 
 from blindweirs.days import cells_of, point_of, size_of
 from blindweirs.errors import BadTable, OtherSize
-from blindweirs.given import need_day, need_river, need_row, need_stretch, need_water
+from blindweirs.given import need_day, need_morning, need_river, need_stretch, need_water
 from blindweirs.steps import flow, need_releases
 from blindweirs.tables import Table, both, closed, highest, is_empty, is_within, lowest, nothing, sums
 from blindweirs.values import is_list, is_pair
@@ -118,19 +118,21 @@ def can_keep(river, first, last, water):
 
 def releases_for(river, first, last, water, row):
     """The least and the greatest releases behind which the evening fits; None if there are none."""
-    need_river(river)
-    need_stretch(first, last)
-    need_water(river.lags, water)
+    need_morning(river, first, last, water, row)
     day = river.day_on(first)
-    need_row(day, row)
     after = tables(river, first, last)[0][1]
-    standing = sums(flow(day, water, row, [0] * len(day.lags)))
+    standing = standing_of(day, water, row)
     within = both(after, within_reach(day, standing))
     if is_empty(within):
         return None
     least = let_down(day, standing, highest(within))
     greatest = let_down(day, standing, lowest(within))
     return (least, greatest)
+
+
+def standing_of(day, water, row):
+    """The sums of what would lie there in the evening if nothing were let down."""
+    return sums(flow(day, water, row, [0] * len(row)))
 
 
 def within_reach(day, standing):
@@ -153,11 +155,8 @@ def let_down(day, standing, water):
 
 def is_keeping(river, first, last, water, row, releases):
     """Whether the evening behind these releases fits the first evening of the tables."""
-    need_river(river)
-    need_stretch(first, last)
-    need_water(river.lags, water)
+    need_morning(river, first, last, water, row)
     day = river.day_on(first)
-    need_row(day, row)
     need_releases(day, releases)
     return tables(river, first, last)[0][1].fits(flow(day, water, row, releases))
 

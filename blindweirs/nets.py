@@ -2,8 +2,8 @@
 
 from blindweirs.errors import BadRows
 from blindweirs.given import need_number_from, need_river, need_water
-from blindweirs.kept import comes_from, let_down, outlets_by_point, places_above
-from blindweirs.steps import flow, need_rows
+from blindweirs.kept import comes_from, let_down, outlets_by_point, places_above, standing_of
+from blindweirs.steps import need_rows
 from blindweirs.tables import sums, water_of
 from blindweirs.values import is_list, is_number, is_pair
 from blindweirs.ways import is_losing_ring, least_to, losing_ring
@@ -119,7 +119,7 @@ def plan_of(river, first, rows, water, heights):
     lying = water
     for at, row in enumerate(rows):
         day = river.day_on(first + at)
-        standing = sums(flow(day, lying, row, [0] * len(row)))
+        standing = standing_of(day, lying, row)
         lying = water_of([heights[_node(first + at, point)] for point in range(len(water) + 1)])
         plan.append(let_down(day, standing, lying))
     return plan

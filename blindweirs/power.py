@@ -3,11 +3,11 @@
 from blindweirs.days import point_of
 from blindweirs.errors import BadPrices, BadReleases, TooMany
 from blindweirs.flows import cheapest_flow, highest_of_best
-from blindweirs.given import need_river, need_row, need_stretch, need_water
-from blindweirs.kept import let_down, tables, within_reach
+from blindweirs.given import need_morning
+from blindweirs.kept import let_down, standing_of, tables, within_reach
 from blindweirs.nets import coming, is_node, need_known, net, plan_of
 from blindweirs.steps import flow
-from blindweirs.tables import both, closed, is_empty, sums, water_of
+from blindweirs.tables import both, closed, is_empty, water_of
 from blindweirs.values import is_list, is_number, is_number_from, is_pair
 from blindweirs.ways import losing_ring
 
@@ -128,20 +128,16 @@ def _let_down_to_nothing(river, first, rows, water):
 
 def safe_day(river, first, last, water, row, prices):
     """The releases of today with the greatest yield behind which all can be kept; None if there are none."""
-    need_river(river)
-    need_stretch(first, last)
-    need_water(river.lags, water)
-    day = river.day_on(first)
-    need_row(day, row)
+    need_morning(river, first, last, water, row)
     if not _are_numbers(prices, len(river.lags)):
         raise BadPrices("one number for each place")
     _need_few(river, last - first + 1)
-    return _safest(day, tables(river, first, last)[0][1], water, row, prices)
+    return _safest(river.day_on(first), tables(river, first, last)[0][1], water, row, prices)
 
 
 def _safest(day, after, water, row, prices):
     """The same for a day whose evening must fit a table."""
-    standing = sums(flow(day, water, row, [0] * len(row)))
+    standing = standing_of(day, water, row)
     within = both(after, within_reach(day, standing))
     if is_empty(within):
         return None

@@ -154,9 +154,9 @@ class SafeMostTest(unittest.TestCase):
                 continue
             place = choice.randrange(len(river.lags))
             found = safe_most(*told, place)
-            for number in range(0 if found is None else found, (0 if found is None else found) + 2):
+            for number in [0] if found is None else [found, found + 1]:
                 becoming = told_river(river, rights, first, last, row, place, number)
-                self.assertEqual(can_win(becoming, 0, last - first, water, {}), found is not None and number <= found)
+                self.assertEqual(can_win(becoming, 0, last - first, water, {}), number == found)
 
     def test_errors(self):
         river, rights = plain_river(), Rights([MILL])
