@@ -32,7 +32,7 @@ class Flow:
             far, ahead, goal = self.nearest(source)
             for node in far:
                 self.heights[node] += far[goal] - far[node]
-            self.send(_way_back(ahead, source, goal))
+            self.send(way_back(ahead, source, goal))
 
     def nearest(self, source):
         """The distances up to the nearest node that lacks something, the steps to them, and this node."""
@@ -70,7 +70,7 @@ class Flow:
         self.left[way[-1]] += amount
 
 
-def _way_back(ahead, source, goal):
+def way_back(ahead, source, goal):
     """The nodes from a source to a goal."""
     way = [goal]
     while way[-1] != source:

@@ -100,23 +100,28 @@ def _is_lot(rights, thing):
     return thing == tuple([name for name in rights.names if name in thing])
 
 
+def need_lot(rights, lot):
+    if not _is_lot(rights, lot):
+        raise BadLot("no tuple of different names of the rights, in their order")
+
+
+def with_taken(day, number, rights):
+    """The day of this number on which these rights are taken, too, as far as they are of it."""
+    takes = list(day.takes)
+    for _, place, on_day, amount in rights:
+        if on_day == number:
+            takes[place] += amount
+    return day.with_takes(takes)
+
+
 def river_of(river, rights, lot, first, last):
     """The river of a stretch of days in which the rights of a lot are taken, too."""
     need_river(river)
     need_rights(river, rights)
-    if not _is_lot(rights, lot):
-        raise BadLot("no tuple of different names of the rights, in their order")
+    need_lot(rights, lot)
     need_stretch(first, last)
     taken = [right for right in rights.rights if right[0] in lot]
-    days = []
-    for number in range(first, last + 1):
-        day = river.day_on(number)
-        takes = list(day.takes)
-        for _, place, on_day, amount in taken:
-            if on_day == number:
-                takes[place] += amount
-        days.append(day.with_takes(takes))
-    return River(days)
+    return River([with_taken(river.day_on(number), number, taken) for number in range(first, last + 1)])
 
 
 def sure_table(river, rights, lot, first, last):

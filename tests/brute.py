@@ -2,21 +2,29 @@
 
 from itertools import product
 
-from blindweirs.days import Day, River, is_rain, rain_between
+from blindweirs.days import Day, River, is_rain, point_of, rain_between
+from blindweirs.desk import Desk
+from blindweirs.due import Season
+from blindweirs.live import Led
 from blindweirs.rights import Rights
 from blindweirs.steps import evening, is_sound
+from blindweirs.sums import LeastSum
 from blindweirs.tables import Table, both, closed, sums
+from blindweirs.texts import river_text
 
 
 def any_values():
     """Values of all kinds, none of which is anything that the package judges."""
     day = Day([0], [(0, 2)], rain_between([0], [1]))
+    river = River([day])
     deep = []
     for _ in range(11):
         deep = [deep]
     return [None, True, False, "", "mark", 0, 7, -1, {}, {1: 2}, {"a": [1]}, [None], (None,), [[]], ((),),
-            deep, Table(1), day, River([day]), Rights(), [Table(1)], (day,), [(True, 1)], (True, 2), [True, 0],
-            ("mark",), [("mark",)], [(1, 2)], [(1, 2, 3, 4, 5, 6)], [("evening", 0, 1, 0, 5, None)]]
+            deep, Table(1), day, river, Rights(), [Table(1)], (day,), [(True, 1)], (True, 2), [True, 0],
+            ("mark",), [("mark",)], [(1, 2)], [(1, 2, 3, 4, 5, 6)], [("evening", 0, 1, 0, 5, None)],
+            LeastSum([(0, ())]), Season(river, 0, 0, (0,), Rights()), Led(river, Rights(), 0, (0,)),
+            Desk(river_text(river), 0, (0,)), {None: None}, {(0, True): 1}, {((0, 0), (0, 0)): ((0, 0), (0, True))}]
 
 
 def waters(size, low, high):
@@ -117,3 +125,78 @@ def some_day(choice, lags):
 def some_river(choice):
     lags = choice.choice([[0], [0, 0], [1, 0], [2, 0], [0, 1, 0]])
     return River([some_day(choice, lags) for _ in range(choice.randint(1, 2))])
+
+
+LOW_LAGS = [[0], [0, 0], [1, 0], [2, 0], [0, 0, 0], [1, 0, 0]]
+
+
+def plain_day(choice, lags):
+    """A day of a season, some of whose rooms and outlets have no bound."""
+    outlets = [(0, choice.choice([None, 0, 1, 2, 3])) for _ in lags]
+    rooms = {}
+    for place in range(len(lags)):
+        point = point_of(lags, place)
+        if choice.random() < 0.7:
+            rooms[(point, point - 1)] = choice.randint(0, 3)
+    return Day(lags, outlets, rain_between([0] * len(lags), [1] * len(lags)), None,
+               Table(len(lags) + sum(lags), rooms))
+
+
+def some_season(choice, lags=None, first=None, many=None, most_spots=6, most_rights=4, most_amount=3):
+    lags = choice.choice(LOW_LAGS) if lags is None else lags
+    first = choice.choice([0, 0, 1, 5, 10 ** 7]) if first is None else first
+    many = choice.randint(1, max(1, min(3, most_spots // len(lags)))) if many is None else many
+    river = River([plain_day(choice, lags) for _ in range(choice.randint(1, 2))])
+    water = tuple(choice.choice([0, 0, 1, 2]) for _ in range(len(lags) + sum(lags)))
+    names = choice.sample("abcde", choice.randint(0, most_rights))
+    rights = Rights([(name, choice.randrange(len(lags)), first + choice.randrange(many), choice.randint(1, most_amount))
+                     for name in names])
+    return Season(river, first, first + many - 1, water, rights)
+
+
+def spots_of(season):
+    return [(day, place) for day in range(season.first, season.last + 1) for place in range(len(season.river.lags))]
+
+
+def some_rains(choice, season, most=3):
+    return {spot: choice.randint(0, most) for spot in spots_of(season) if choice.random() < 0.6}
+
+
+def are_possible(season, rains, takings):
+    """Whether there is a course, by trying all releases and all evenings."""
+    taken = {}
+    for name, number in takings.items():
+        _, place, day, _ = season.rights.right(name)
+        taken[(day, place)] = taken.get((day, place), 0) + number
+    return _can_go_on(season, season.first, season.water, rains, taken, {})
+
+
+def _can_go_on(season, number, water, rains, taken, known):
+    if number > season.last:
+        return True
+    if (number, water) not in known:
+        day = season.river.day_on(number)
+        lags = day.lags
+        row = [rains.get((number, place), 0) - taken.get((number, place), 0) for place in range(len(lags))]
+        most = sum(water) + sum(max(0, coming) for coming in row)
+        ranges = [range(min(most, most if greatest is None else greatest) + 1) for _, greatest in day.outlets]
+        known[(number, water)] = any(
+            _can_go_on(season, number + 1, lying, rains, taken, known)
+            for releases in product(*ranges) for lying in _evenings(day, water, row, releases))
+    return known[(number, water)]
+
+
+def _evenings(day, water, row, releases):
+    """All waters that may lie there in the evening, when something or nothing is spilled."""
+    cells = []
+    at = 0
+    for place, lag in enumerate(day.lags):
+        left = water[at] + row[place] - releases[place]
+        if place > 0:
+            left += releases[place - 1] if day.lags[place - 1] == 0 else water[at - 1]
+        room = day.marks.bounds.get((at + 1, at))
+        cells.append(range((left if room is None else min(left, room)) + 1))
+        way = [releases[place], *water[at + 1:at + lag]] if lag > 0 else []
+        cells += [[lying] for lying in way]
+        at += lag + 1
+    return list(product(*cells))

@@ -16,12 +16,14 @@ METHODS = {"append", "clear", "copy", "count", "endswith", "extend", "find", "ge
            "isalpha", "isdigit", "islower", "isspace", "isupper", "items", "join", "keys", "ljust", "lower", "lstrip",
            "partition", "pop", "remove", "replace", "reverse", "rfind", "rjust", "rpartition", "rsplit", "rstrip",
            "setdefault", "split", "splitlines", "startswith", "strip", "update", "upper", "values", "zfill",
-           "bit_length", "add", "discard"}
+           "bit_length", "add", "discard", "isascii"}
 SPECIAL = {"__init__", "__eq__", "__len__", "__enter__", "__exit__", "__or__", "__iter__"}
+OPERATORS = ("__eq__", "__or__", "__len__")
+RUN_BY_OPERATORS = {"sums.py": ("_needed", "_has_part", "_is_sum", "_is_drop")}
 WORDS = re.compile(r"\b(type|typing|enum|Enum|Flag|Generic|Protocol|ABC|namedtuple|NamedTuple|TypedDict|register|mro|"
                    r"elements|open|input|law|eval|exec|getattr|setattr|hasattr|globals|locals|vars|_wall\w*)\b")
 BARRED = (ast.Global, ast.AsyncFunctionDef, ast.AsyncFor, ast.AsyncWith, ast.Await, ast.Import, ast.Div,
-          ast.GeneratorExp, ast.Try, ast.Set, ast.MatMult)
+          ast.GeneratorExp, ast.Set, ast.MatMult, ast.Yield, ast.YieldFrom)
 
 
 def sources():
@@ -80,8 +82,15 @@ class FormTest(unittest.TestCase):
         for name, tree in trees().items():
             for node in tree.body:
                 self.assertIsInstance(node, (ast.Expr, ast.ImportFrom, ast.Assign, ast.FunctionDef, ast.ClassDef), name)
-                if isinstance(node, ast.Assign):
+                if isinstance(node, ast.Assign) and not self.is_table_of_functions(tree, node):
                     ast.literal_eval(node.value)
+
+    def is_table_of_functions(self, tree, assignment):
+        """Whether a dict of functions is assigned that are defined above it."""
+        if not isinstance(assignment.value, ast.Dict):
+            return False
+        above = [node.name for node in tree.body if isinstance(node, ast.FunctionDef) and node.lineno < assignment.lineno]
+        return all(isinstance(value, ast.Name) and value.id in above for value in assignment.value.values)
 
     def test_names(self):
         for name, tree in trees().items():
@@ -125,6 +134,60 @@ class FormTest(unittest.TestCase):
             for call in nodes(tree, ast.Call):
                 if isinstance(call.func, ast.Attribute):
                     self.assertIn(call.func.attr, METHODS | own, name)
+
+    def test_own_errors_are_caught_by_name(self):
+        defined = [node.name for node in trees()["errors.py"].body if isinstance(node, ast.ClassDef)]
+        for name, tree in trees().items():
+            for node in nodes(tree, ast.Try):
+                self.assertEqual((node.finalbody, node.orelse), ([], []), name)
+                for handler in node.handlers:
+                    self.assertIn(ast.unparse(handler.type), defined, name)
+                    self.assertIsNone(handler.name, name)
+            for node in nodes(tree, ast.Raise):
+                self.assertIsInstance(node.exc, ast.Call, name)
+                self.assertIn(ast.unparse(node.exc.func), defined, name)
+
+    def test_a_name_is_one_kind_of_thing_in_classes(self):
+        methods, properties, attributes = {}, {}, {}
+        for name, tree in trees().items():
+            for made in nodes(tree, ast.ClassDef):
+                for node in made.body:
+                    if isinstance(node, ast.FunctionDef):
+                        (properties if node.decorator_list else methods)[node.name] = (name, made.name)
+            for node in nodes(tree, ast.Attribute):
+                if isinstance(node.ctx, ast.Store):
+                    attributes[node.attr] = name
+                    self.assertIsInstance(node.value, ast.Name, name)
+                self.assertNotIsInstance(node.ctx, ast.Del, name)
+        self.assertEqual(set(methods) & set(properties), set())
+        self.assertEqual(set(methods) & set(attributes), set())
+        self.assertEqual(set(properties) & set(attributes), set())
+        self.assertEqual(set(properties) & METHODS, set())
+        self.assertEqual(set(attributes) & METHODS, set())
+        for name, tree in trees().items():
+            for node in nodes(tree, ast.Attribute):
+                if node.attr not in METHODS and not node.attr.startswith("__"):
+                    self.assertIn(node.attr, {**methods, **properties, **attributes}, name)
+
+    def test_operators_and_properties_change_nothing(self):
+        for name, tree in trees().items():
+            for function in nodes(tree, ast.FunctionDef):
+                if function.decorator_list or function.name in OPERATORS + RUN_BY_OPERATORS.get(name, ()):
+                    created = [node.targets[0].id for node in nodes(function, ast.Assign)
+                               if isinstance(node.value, (ast.List, ast.ListComp))]
+                    for node in nodes(function, (ast.Attribute, ast.Subscript)):
+                        self.assertIsInstance(node.ctx, ast.Load, (name, function.name))
+                    self.assertEqual(nodes(function, (ast.AugAssign, ast.Delete)), [])
+                    for call in nodes(function, ast.Call):
+                        if isinstance(call.func, ast.Attribute) and call.func.attr in ("append", "extend", "pop", "update", "clear"):
+                            self.assertIn(ast.unparse(call.func.value), created, (name, function.name))
+
+    def test_what_ends_a_block(self):
+        found = [node for tree in trees().values() for node in nodes(tree, ast.FunctionDef) if node.name == "__exit__"]
+        self.assertEqual(len(found), 1)
+        for node in ast.walk(ast.Module(found[0].body, [])):
+            self.assertIsInstance(node, (ast.Module, ast.If, ast.Compare, ast.IsNot, ast.Constant, ast.Assign, ast.Attribute,
+                                         ast.Name, ast.Load, ast.Store))
 
     def test_strings(self):
         for name, tree in trees().items():

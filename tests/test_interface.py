@@ -10,7 +10,8 @@ import blindweirs
 
 PACKAGE = Path(blindweirs.__file__).parent
 ORDER = ["errors", "values", "ways", "tables", "days", "given", "steps", "kept", "reasons", "rights", "search", "changes",
-         "letting", "owners", "years", "nets", "seeing", "flows", "power"]
+         "letting", "owners", "years", "nets", "seeing", "flows", "power", "sums", "streams", "channels", "due", "claims",
+         "live", "journals", "words", "texts", "desk"]
 
 FUNCTIONS = {
     "tables": ["is_water(thing)", "sums(water)", "nothing(size)", "closed(table)", "is_empty(table)", "ring(table)",
@@ -50,6 +51,15 @@ FUNCTIONS = {
               "dearest_plan(river, first, rows, water, prices)", "shown(river, first, rows, water, prices, thing)",
               "worths(river, first, rows, water, prices)", "safe_day(river, first, last, water, row, prices)",
               "led_day_by_day(river, first, rows, water, prices)"],
+    "sums": ["never_more(one, other)", "cover(one, other)", "is_cover(one, other, thing)", "more_at(one, other)"],
+    "due": ["course(season, rains, takings)", "is_course(season, rains, takings, thing)", "deal(season, rains)",
+            "can_have(season, lot)", "call(season, rains, name)", "is_call(season, rains, name, thing)",
+            "needs(season, lot)", "unmet(season, lot, rains)"],
+    "claims": ["never_loses(old, new, name)", "case(old, new, name)", "is_case(old, new, name, thing)",
+               "shield(old, new, name)", "is_shield(old, new, name, thing)", "losers(old, new)", "in_the_way(season)"],
+    "journals": ["journal_of(led)", "first_wrong(led, journal)", "replayed(led, journal)"],
+    "texts": ["table_text(table)", "river_text(river)", "rights_text(rights)", "reasons_text(reasons)",
+              "read_table(text)", "read_river(text)", "read_rights(text)", "read_reasons(text)"],
 }
 CLASSES = {
     "tables": {"Table(size, bounds=None)": (["size", "bounds"], ["fits(self, water)", "__eq__(self, other)"])},
@@ -62,6 +72,17 @@ CLASSES = {
                                      ["right(self, name)", "elders(self, name)", "with_right(self, at, right)",
                                       "without(self, name)", "moved(self, name, at)", "__len__(self)",
                                       "__eq__(self, other)"])},
+    "sums": {"LeastSum(sums)": (["sums", "drops"], ["value(self, rains)", "known(self, rains)", "__or__(self, other)",
+                                                    "__eq__(self, other)"])},
+    "due": {"Season(river, first, last, water, rights)": (["river", "first", "last", "water", "rights"],
+                                                          ["__eq__(self, other)"])},
+    "live": {"Led(river, rights, last, water, first=0)":
+             (["today", "water", "row", "lot", "rights", "log", "is_over"],
+              ["come(self, row)", "let(self, releases)", "drop(self, name)", "file(self, right)",
+               "change(self, day, number)", "undo(self)", "stretch(self)", "is_kept(self)", "why(self)", "may(self)",
+               "sure(self)", "__enter__(self)", "__exit__(self, kind, value, trace)", "tried(self, work)", "copy(self)",
+               "__eq__(self, other)"])},
+    "desk": {"Desk(text, last, water)": ([], ["say(self, line)"])},
 }
 
 
@@ -89,6 +110,12 @@ class InterfaceTest(unittest.TestCase):
                     self.assertIsInstance(vars(made)[attribute], property)
                 for method in methods:
                     self.assertEqual(told(vars(made)[method.split("(")[0]]), method)
+
+    def test_the_modules_of_the_interface_stand_in_its_order(self):
+        told = ["errors", "tables", "days", "steps", "kept", "reasons", "rights", "changes", "letting", "owners", "years",
+                "nets", "seeing", "power", "sums", "due", "claims", "live", "journals", "texts", "desk"]
+        self.assertEqual([name for name in ORDER if name in told], told)
+        self.assertEqual(set(told), {"errors", *FUNCTIONS, *CLASSES})
 
     def test_the_package_defines_nothing(self):
         body = ast.parse((PACKAGE / "__init__.py").read_text()).body
