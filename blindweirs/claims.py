@@ -1,7 +1,7 @@
 """Claims for all rains: whether a change of a season takes anything from a right."""
 
 from blindweirs.due import amounts_at, can_have, deal, need_season
-from blindweirs.errors import BadName, OtherSpots, TooMany
+from blindweirs.errors import OtherSpots, TooMany
 from blindweirs.streams import greatest_flow
 from blindweirs.sums import are_rains
 from blindweirs.values import is_number, is_pair
@@ -18,12 +18,6 @@ def _need_two(old, new):
     need_season(new)
     if old.channels.spots != new.channels.spots:
         raise OtherSpots("the seasons have different spots")
-
-
-def _need_compared(old, new, name):
-    _need_two(old, new)
-    if name not in old.rights.names or name not in new.rights.names:
-        raise BadName(name)
 
 
 def _few_sums(season, lot):
@@ -72,6 +66,7 @@ def _sides(old, new, name):
 
     The first is what new deals with it and old without it, the second what old deals with it and new without it.
     """
+    _need_two(old, new)
     was, becomes = old.rights.elders(name), new.rights.elders(name)
     was_with, was_without = _few_sums(old, was), _few_sums(old, was[:-1])
     new_with, new_without = _few_sums(new, becomes), _few_sums(new, becomes[:-1])
@@ -89,14 +84,12 @@ def _first_bare(above, below):
 
 def never_loses(old, new, name):
     """Whether a right is dealt by new at least what it is dealt by old, by all rains."""
-    _need_compared(old, new, name)
     above, below = _sides(old, new, name)
     return _first_bare(above, below) is None
 
 
 def case(old, new, name):
     """Rains by which a right is dealt less by new than by old; None if there are none."""
-    _need_compared(old, new, name)
     above, below = _sides(old, new, name)
     bare = _first_bare(above, below)
     if bare is None:
@@ -108,7 +101,7 @@ def case(old, new, name):
     limits = _joined(old, new, name, dry, shared)
     sent = greatest_flow(limits, SOURCE, GOAL)
     rains = {spot: sent[((NEW, spot), (OLD, spot))] for spot in shared}
-    # Where it rains that much no least sum has the drop.
+    # Where it rains that much the drop is in no sum that is the least one.
     plenty = number + sum(list(rains.values())) + 1
     return {spot: 0 if spot in dry else rains.get(spot, plenty) for spot in bits}
 
@@ -155,7 +148,7 @@ def _end(node):
 
 def is_case(old, new, name, thing):
     """Whether any value is rains by which a right is dealt less by new than by old."""
-    _need_compared(old, new, name)
+    # Here, too, the sums may not be too many.
     _sides(old, new, name)
     if not are_rains(thing):
         return False
@@ -164,7 +157,6 @@ def is_case(old, new, name, thing):
 
 def shield(old, new, name):
     """For each pair of sums of the first side one of the second side that is at most it; None if some has none."""
-    _need_compared(old, new, name)
     above, below = _sides(old, new, name)
     if _first_bare(above, below) is not None:
         return None
@@ -174,7 +166,6 @@ def shield(old, new, name):
 
 def is_shield(old, new, name, thing):
     """Whether any value has for each pair of sums of the first side one of the second side that is at most it."""
-    _need_compared(old, new, name)
     above, below = _sides(old, new, name)
     if not isinstance(thing, dict) or len(thing) != len(above):
         return False

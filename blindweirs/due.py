@@ -226,11 +226,6 @@ def _need_called(season, rains, name):
     _need_name(season, name)
 
 
-def _own_spot(season, name):
-    _, place, day, _ = season.rights.right(name)
-    return (day, place)
-
-
 def call(season, rains, name):
     """A basin that shows that a right cannot be dealt more; None if it is dealt its amount."""
     _need_called(season, rains, name)
@@ -238,8 +233,8 @@ def call(season, rains, name):
     together = min(list(values.values()))
     if not _is_short(season, rains, name, together):
         return None
-    own = season.channels.bits[_own_spot(season, name)]
-    shown = [basin for basin in values if values[basin] == together and basin & own == 0]
+    # A sum with the right's own spot counts its whole amount: where the right is short it is not the least one.
+    shown = [basin for basin in values if values[basin] == together]
     return spots_in(season.channels, shown[0])
 
 
@@ -249,8 +244,9 @@ def is_call(season, rains, name, thing):
     bits = season.channels.bits
     if not isinstance(thing, tuple) or not all([_is_spot(season, spot) for spot in thing]):
         return False
-    if not all([ahead < behind for ahead, behind in zip(thing, thing[1:])]) or _own_spot(season, name) in thing:
+    if not all([ahead < behind for ahead, behind in zip(thing, thing[1:])]):
         return False
+    # It need not be asked whether the right takes there: its whole amount counts in such a sum, and it is short.
     values = _basin_values(season, season.rights.elders(name), rains)
     together = min(list(values.values()))
     if values.get(sum([bits[spot] for spot in thing])) != together:
@@ -279,14 +275,13 @@ def _not_made_up(lacking):
     drops = sorted(set([drop for lot in lacking for drop in lot]))
     bits = {drop: 1 << at for at, drop in enumerate(drops)}
     lots = {sum([bits[drop] for drop in lot]): lot for lot in lacking}
-    most = {0: 0}
+    most = {}
     found = []
     # The parts of a lot, told as bits, are lesser numbers than the lot.
     for whole in range(1, 1 << len(drops)):
-        bit = min([bits[drop] for drop in drops if bits[drop] & whole > 0])
-        numbers = [most[whole - bit]]
+        numbers = [0]
         for lot in lots:
-            if lot & bit > 0 and lot < whole and lot | whole == whole:
+            if lot < whole and lot | whole == whole:
                 numbers.append(lacking[lots[lot]] + most[whole - lot])
         most[whole] = max(numbers)
         if whole in lots and lacking[lots[whole]] > most[whole]:

@@ -1,8 +1,8 @@
 """A river that is led from day to day, whose deeds can be taken back."""
 
-from blindweirs.days import MOST_DAYS, River, rain_between
+from blindweirs.days import River, rain_between
 from blindweirs.errors import BadName, BadRight, NothingDone, NotNow, OtherLags
-from blindweirs.given import need_day, need_number_between, need_number_from, need_river, need_row, need_water
+from blindweirs.given import need_day, need_number_between, need_river, need_row, need_stretch, need_water
 from blindweirs.kept import can_keep, releases_for
 from blindweirs.reasons import book
 from blindweirs.rights import is_claim, need_rights, with_taken
@@ -41,9 +41,7 @@ class Led:
     def __init__(self, river, rights, last, water, first=0):
         need_river(river)
         need_rights(river, rights)
-        need_number_from(last, 0)
-        need_number_from(first, 0)
-        need_number_between(last, first, first + MOST_DAYS - 1)
+        need_stretch(first, last)
         need_water(river.lags, water)
         dated = {number: river.day_on(number) for number in range(first, last + 1)}
         self._began = (river, rights, last, water, first)
@@ -136,9 +134,8 @@ class Led:
     def file(self, right):
         """A right more, behind all others."""
         self._need_time()
-        places = len(self._began[0].lags)
-        if not is_claim(right) or right[0] in self.rights.names or right[1] >= places:
-            raise BadRight("no right, or one whose name is there already, or of a place that the river has not")
+        if not is_claim(right) or right[1] >= len(self._began[0].lags):
+            raise BadRight("no right, or one of a place that the river has not")
         standing = self._standing.behind(("file", right))
         standing.ranks = self.rights.with_right(len(self.rights), right)
         standing.served = self.lot + (right[0],)

@@ -40,7 +40,7 @@ def _open_way(limits, beside, sent, source, goal):
     reached = [source]
     at = 0
     # The shortest ways first: so there are few of them, however great the numbers are.
-    while at < len(reached) and goal not in ahead:
+    while at < len(reached):
         node = reached[at]
         for further in beside.get(node, []):
             if further not in ahead and _is_open(limits, sent, node, further):

@@ -1,9 +1,9 @@
 """Texts of tables, rivers, rights and reasons, and how they are read again."""
 
-from blindweirs.days import Day, River, need_lags, size_of
+from blindweirs.days import Day, River, size_of
 from blindweirs.errors import BadReasons, BadRights, BadTable, BadText, RiverError
 from blindweirs.given import need_river
-from blindweirs.reasons import EVENING, INDEXES, MORNING, is_reason
+from blindweirs.reasons import is_reason
 from blindweirs.rights import Rights
 from blindweirs.tables import MOST_CELLS, Table
 from blindweirs.values import is_list
@@ -147,7 +147,6 @@ def _read_day(lines, at, places):
 
 def _river_told(lags, days):
     """The river that parts of days tell, if they tell one."""
-    need_lags(lags)
     made = []
     for outlets, rain, takes, marks in days:
         made.append(Day(lags, outlets, Table(len(lags), rain), takes, Table(size_of(lags), marks)))
@@ -196,9 +195,7 @@ def read_reasons(text):
 
 
 def _reason_told(words):
-    """What the words of a line tell as a reason, if they are as many numbers as can be; None if not."""
-    if len(words) < 6 or words[0] not in (MORNING, EVENING) or words[5] not in INDEXES:
-        return None
-    if not are_numbers(words[1:5]) or not are_numbers(words[6:]):
+    """What the words of a line would tell as a reason; None if there are words in the place of numbers."""
+    if len(words) < 6 or not are_numbers(words[1:5]) or not are_numbers(words[6:]):
         return None
     return (words[0],) + numbers_of(words[1:5]) + ((words[5],) + numbers_of(words[6:]),)

@@ -158,6 +158,11 @@ class NeverLosesTest(unittest.TestCase):
         for thing in NO_RAINS + any_values() + [{(0, 0): 2, (True, 0): 0}, [((0, 0), 2)]]:
             self.assertIs(is_case(old, new, "a", thing), False)
 
+    def test_a_drop_of_both_sums_brings_nothing(self):
+        old = one_place(3, [None, 2], [("b", 0, 2, 3), ("a", 0, 0, 2), ("d", 0, 1, 2)])
+        new = one_place(3, [3, 2], [("b", 0, 2, 3), ("a", 0, 2, 1), ("c", 0, 1, 1), ("d", 0, 2, 2)])
+        self.judge(old, new, "d", False)
+
     def test_shields(self):
         old = one_place(1, [None], [("b", 0, 0, 1), ("a", 0, 0, 2)])
         new = one_place(1, [None], [("a", 0, 0, 2)])

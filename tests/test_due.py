@@ -370,6 +370,16 @@ class CallTest(unittest.TestCase):
                     total += most
         return total
 
+    def test_spots_in_another_order(self):
+        river = River([day_of([0, 0], [(0, 0), (0, 0)], {(1, 0): 0, (2, 1): 0}, 2)])
+        season = Season(river, 0, 1, (0, 0), Rights([("a", 1, 1, 2)]))
+        for basin in [(), ((0, 0), (0, 1)), ((0, 0), (0, 1), (1, 0)), ((0, 1), (1, 0))]:
+            self.assertIs(is_call(season, {(1, 1): 1}, "a", basin), True)
+        for basin in [((0, 1), (0, 0)), ((0, 0), (0, 0)), ((0, 0), (1, 0), (0, 1)), ((1, 0), (0, 1)), ((0, 0), (0, 0), (0, 1))]:
+            self.assertIs(is_call(season, {(1, 1): 1}, "a", basin), False)
+        self.assertIs(is_call(season, {(1, 1): 1}, "a", ((1, 1),)), False)
+        self.assertIs(is_call(season, {(1, 1): 2}, "a", ()), False)
+
     def test_what_is_no_call(self):
         season = plain_season()
         self.assertEqual(call(season=season, rains={}, name="mill"), ())

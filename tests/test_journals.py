@@ -107,6 +107,14 @@ class JournalTest(unittest.TestCase):
                 self.assertEqual(caught.exception.at, 1)
         self.assertEqual(first_wrong(led, journal + journal[:1]), len(journal))
 
+    def test_true_is_not_one(self):
+        begun = led_river(1, 2, 1)
+        good = (1, (1,), begun.is_kept())
+        self.assertIsNone(first_wrong(begun, [(("rain", (1,)), (1, (1,), True))]))
+        for told in [(True, (1,), True), (1, (True,), True), (1, (1,), 1), (1, [1], True), [1, (1,), True]]:
+            self.assertEqual(first_wrong(begun, [(("rain", (1,)), told)]), 0)
+        self.assertEqual(first_wrong(begun, [(("rain", (True,)), good)]), 0)
+
     def test_releases_are_a_tuple(self):
         begun = led_river(2, 1)
         rain = (("rain", (1,)), (0, (2,), True))
